@@ -1,0 +1,1 @@
+"""Firms, desks and orders: what may yet be owed in an electricity market."""

@@ -1,0 +1,17 @@
+"""The numbers with which calls are refused."""
+
+OUT_OF_RANGE = -1
+NOT_YET_OPENED = -2
+OPENED_ALREADY = -3
+HIGH_BELOW_LOW = -4
+NO_FIRM = -5
+NO_DESK = -6
+NO_ORDER = -7
+TOO_MANY = -8
+WRONG_PLACE_IN_TREE = -9
+STOPPED = -10
+PRICE_OUTSIDE = -11
+UNFIT = -12
+STILL_IN_USE = -13
+OWES_TOO_MUCH = -14
+NO_ROOM = -15
