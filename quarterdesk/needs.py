@@ -27,15 +27,18 @@ def all_needs(house):
     return needs
 
 
+# The firms that want room behind a call, in order of number, each with how much its need is above its line.
 # No call that is asked for room founds a firm or lets one leave, so both houses have the same firms.
-def room_is_missing(before, after):
+def firms_in_the_way(before, after):
     old_needs = all_needs(before)
     new_needs = all_needs(after)
-    for number, firm in after.firms.items():
+    found = []
+    for number in sorted(after.firms):
+        firm = after.firms[number]
         worse = new_needs[number] > old_needs[number] or firm.line < before.firms[number].line
         if new_needs[number] > firm.line and worse:
-            return True
-    return False
+            found.append((number, new_needs[number] - firm.line))
+    return found
 
 
 # By how much a firm's own need may grow till it or a firm above it stands in the way. Where a fenced

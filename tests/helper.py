@@ -1,6 +1,7 @@
 """What the tests share: calls in a readable form, and checks that many tests make.
 
 A call is a tuple: its name, its numbers, then its lists, as in ("block", 1, 0, 5, 0, 0, 98, [3, 4]).
+The call that asks what another would be answered has the other call behind its name: ("would", "hold", 1).
 """
 
 import unittest
@@ -12,6 +13,7 @@ NAMES = (
     "charge stop leave need firm tree short worst at most hold order orders"
 ).split()
 PLACES = {name: place for place, name in enumerate(NAMES)}
+WOULD = 31
 
 BUY = 0
 SELL = 1
@@ -23,9 +25,11 @@ MONEY = 10**15
 def encode(calls):
     told = []
     for call in calls:
-        numbers = [part for part in call[1:] if not isinstance(part, list)]
-        rows = [part for part in call[1:] if isinstance(part, list)]
-        told += [PLACES[call[0]], len(numbers)] + numbers + [len(rows)]
+        numbers = [PLACES.get(part, part) for part in call if not isinstance(part, list)]
+        rows = [part for part in call if isinstance(part, list)]
+        if call[0] == "would":
+            numbers[0] = WOULD
+        told += [numbers[0], len(numbers) - 1] + numbers[1:] + [len(rows)]
         for row in rows:
             told += [len(row)] + row
     return told
@@ -50,6 +54,10 @@ def run(calls):
 
 def last(calls):
     return run(calls)[-1]
+
+
+def would(call):
+    return ("would",) + call
 
 
 def count_of(calls, *names):
@@ -87,7 +95,21 @@ def owing(money):
 
 class HouseTest(unittest.TestCase):
     def check(self, setup, call, reply):
+        """Checks the reply, and that would, asked ahead of the call, tells it and leaves it as it is."""
         self.assertEqual(last(list(setup) + [call]), reply, call)
+        told, then = run(list(setup) + [would(call), call])[-2:]
+        self.assertEqual(then, reply, call)
+        self.check_told(told, call, reply[0])
+
+    def check_told(self, told, call, number):
+        if number == -15:
+            self.assertEqual(told[:2], [0, -15], call)
+            self.assertGreater(told[2], 0, call)
+            self.assertEqual(len(told), 3 + 2 * told[2], call)
+            self.assertEqual(told[3::2], sorted(set(told[3::2])), call)
+            self.assertTrue(all(lacking > 0 for lacking in told[4::2]), call)
+        else:
+            self.assertEqual(told, [-1] if number == -1 else [0, number, 0], call)
 
     def check_all(self, calls_and_replies):
         calls = [call for call, reply in calls_and_replies]
@@ -99,6 +121,12 @@ class HouseTest(unittest.TestCase):
         without = run(list(setup) + behind)[len(setup):]
         with_call = run(list(setup) + [call] + behind)[len(setup) + 1:]
         self.assertEqual(with_call, without, call)
+
+    def check_would(self, setup, call, told):
+        """Checks what would tells behind its 0, that the call itself is answered so, and that nothing is changed."""
+        self.assertEqual(last(list(setup) + [would(call)]), [0] + told, call)
+        self.assertEqual(run(list(setup) + [would(call), call])[-1][0], told[0], call)
+        self.check_changes_nothing(setup, would(call))
 
     def check_refused(self, setup, call, number):
         self.check(setup, call, [number])

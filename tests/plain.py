@@ -124,13 +124,13 @@ class PlainHouse:
         return total
 
     def in_the_way(self, before):
-        """The firms that are above their lines, and by the call need more or have a lower line."""
+        """The firms that are above their lines, and by the call need more or have a lower line; and by how much."""
         found = []
         for number, firm in self.numbered(self.firms):
             need = self.need(number)
             if need > firm["line"]:
                 if need > before.need(number) or firm["line"] < before.firms[number - 1]["line"]:
-                    found.append(number)
+                    found.append((number, need - firm["line"]))
         return found
 
     # The calls, one method each. A refused one may leave a mess: it's done to a copy.
@@ -395,16 +395,28 @@ class PlainHouse:
 NEED_ROOM = ("line", "fence", "move", "give", "step", "live", "block", "cancel", "cut", "payout")
 
 
-def plain_reply(house, call):
-    """The reply to a call whose arguments are within their ranges, and the house behind it."""
+def attempt(house, call):
+    """The reply to a call, the house behind it, and the firms in its way."""
     behind = copy.deepcopy(house)
+    in_the_way = []
     try:
         refuse_if(call[0] != "open" and house.opened is None, -2)
         told = getattr(behind, "do_" + call[0])(*call[1:])
-        refuse_if(call[0] in NEED_ROOM and behind.in_the_way(house), -15)
+        if call[0] in NEED_ROOM:
+            in_the_way = behind.in_the_way(house)
+        refuse_if(in_the_way, -15)
     except Refused as refusal:
-        return [refusal.args[0]], house
-    return [0] + told, behind
+        return [refusal.args[0]], house, in_the_way
+    return [0] + told, behind, []
+
+
+def plain_reply(house, call):
+    """The reply to a call whose arguments are within their ranges, and the house behind it."""
+    if call[0] == "would":
+        reply, _, in_the_way = attempt(house, call[1:])
+        return [0, reply[0], len(in_the_way)] + [part for pair in in_the_way for part in pair], house
+    reply, behind, _ = attempt(house, call)
+    return reply, behind
 
 
 def plain_run(calls):

@@ -4,7 +4,9 @@ from itertools import combinations
 
 from helper import BILLION, BUY, HUGE, SELL, HouseTest, last, run
 from quarterdesk import records
+from quarterdesk.house import reply_to_would
 from quarterdesk.ordercalls import enter_block, enter_live, enter_step
+from quarterdesk.reading import Call
 from quarterdesk.records import Firm, House
 
 OPEN = [("open", -10, 10, 50)]
@@ -205,13 +207,16 @@ class OrdersNumbered(HouseTest):
         return house
 
     def test_the_last_number(self):
-        for enter, numbers, rows in [
-            (enter_step, [1, 0, BUY, 0, 1], []),
-            (enter_live, [1, BUY, 0, 1], []),
-            (enter_block, [1, BUY, 0, 0, 0, 0], [[1]]),
+        for enter, place, numbers, rows in [
+            (enter_step, 8, [1, 0, BUY, 0, 1], []),
+            (enter_live, 9, [1, BUY, 0, 1], []),
+            (enter_block, 10, [1, BUY, 0, 0, 0, 0], [[1]]),
         ]:
             self.assertEqual(enter(self.house(BILLION - 1), numbers, rows), [0, BILLION])
             self.assertEqual(enter(self.house(BILLION), numbers, rows), [-8])
+            asked = Call(31, [place] + numbers, rows)
+            self.assertEqual(reply_to_would(self.house(BILLION - 1), self.house(BILLION - 1), asked), [0, 0, 0])
+            self.assertEqual(reply_to_would(self.house(BILLION), self.house(BILLION), asked), [0, -8, 0])
 
 
 # The faults of an order that's to be entered, in the order in which they're looked at.

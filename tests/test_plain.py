@@ -3,16 +3,18 @@
 import random
 from itertools import product
 
-from helper import BILLION, BUY, SELL, HouseTest, last, run
-from plain import PlainHouse, plain_reply, plain_run
+from helper import BILLION, BUY, HUGE, SELL, HouseTest, last, run, would
+from plain import NEED_ROOM, PlainHouse, plain_reply, plain_run
+from test_ranges import RANGES
 
 # How often each call is drawn.
 WEIGHTS = {
     "found": 5, "line": 8, "fence": 8, "move": 5, "desk": 4, "give": 4, "close": 1, "step": 14, "live": 4, "block": 12,
     "cancel": 6, "cut": 6, "fill": 4, "settle": 4, "take": 5, "payin": 3, "payout": 4, "charge": 3, "stop": 2,
     "leave": 2, "need": 4, "firm": 2, "tree": 2, "short": 2, "worst": 3, "at": 2, "most": 3, "hold": 3, "order": 2,
-    "orders": 2, "open": 1,
+    "orders": 2, "open": 1, "would": 30,
 }
+OTHERS = tuple(name for name in WEIGHTS if name != "would")
 
 
 class Draw:
@@ -112,6 +114,12 @@ class Draw:
 
     def call(self, house):
         name = self.random.choices(list(WEIGHTS), list(WEIGHTS.values()))[0]
+        if name == "would":
+            # Calls that may be refused for want of room come up more often than the others.
+            return would(self.call_named(self.random.choice(OTHERS + NEED_ROOM), house))
+        return self.call_named(name, house)
+
+    def call_named(self, name, house):
         if name in ("block", "settle", "take", "cut", "fill"):
             return getattr(self, name)(house)
         firm, desk, order = (self.number(records) for records in (house.firms, house.desks, house.orders))
@@ -145,14 +153,16 @@ class Draw:
         }[name]()
 
 
-def drawn_calls(seed, count):
-    """Calls drawn for a house, and what the plain reckoning answers to them."""
+def drawn_calls(seed, count, early=0):
+    """Calls drawn for a house, and what the plain reckoning answers to them; some come before the house is open."""
     draw = Draw(seed)
     house = PlainHouse()
     calls = []
     replies = []
-    for place in range(count):
-        if place == 0:
+    for place in range(-early, count):
+        if place < 0:
+            call = draw.call(house)
+        elif place == 0:
             call = ("open", draw.low, draw.high, draw.random.choice((0, 50, 77, 100)))
         elif place < 4:
             call = ("found", draw.firm_or_none(house), 200, 0)
@@ -166,19 +176,71 @@ def drawn_calls(seed, count):
     return calls, replies
 
 
+def spoiled(draw, call):
+    """The call with one of its numbers just out of its range."""
+    place = draw.randrange(len(RANGES[call[0]]))
+    low, high = RANGES[call[0]][place]
+    numbers = list(call)
+    numbers[place + 1] = low - 1 if high == HUGE or draw.randrange(2) else high + 1
+    return tuple(numbers)
+
+
 class AgainstThePlainReckoning(HouseTest):
     def test_drawn_calls(self):
         seen = {}
         for seed in range(120):
-            calls, replies = drawn_calls(seed, 90)
+            calls, replies = drawn_calls(seed, 110, early=3 if seed % 10 == 0 else 0)
             for call, reply, given in zip(calls, replies, run(calls)):
                 self.assertEqual(given, reply, (seed, call))
-                seen[call[0], reply[0]] = seen.get((call[0], reply[0]), 0) + 1
-        for name in WEIGHTS:
+                key = ("would", call[1], reply[1]) if call[0] == "would" else (call[0], reply[0])
+                seen[key] = seen.get(key, 0) + 1
+                if call[0] == "would":
+                    seen[reply[2]] = seen.get(reply[2], 0) + 1
+        for name in OTHERS:
             if name != "open":
                 self.assertGreater(seen.get((name, 0), 0), 10, name)
+                self.assertGreater(seen.get(("would", name, 0), 0), 3, name)
         for name in ("line", "fence", "move", "give", "step", "live", "block", "payout"):
             self.assertGreater(seen.get((name, -15), 0), 0, name)
+            self.assertGreater(seen.get(("would", name, -15), 0), 0, name)
+        for in_the_way in (1, 2, 3):
+            self.assertGreater(seen.get(in_the_way, 0), 0, in_the_way)
+
+    def test_each_call_behind_its_would(self):
+        for seed in range(200, 240):
+            calls, _ = drawn_calls(seed, 110, early=3)
+            calls = [call[1:] if call[0] == "would" else call for call in calls]
+            doubled = run([asked for call in calls for asked in (would(call), call)])
+            self.assertEqual(doubled[1::2], run(calls), seed)
+            for call, told, reply in zip(calls, doubled[0::2], doubled[1::2]):
+                self.check_told(told, call, reply[0])
+
+    def test_would_of_every_call_at_once(self):
+        for seed in range(300, 330):
+            draw = Draw(seed)
+            calls, house = [], PlainHouse()
+            for call in drawn_calls(seed, 60)[0]:
+                calls.append(call)
+                house = plain_reply(house, call)[1]
+            asked = [draw.call_named(name, house) for name in OTHERS]
+            told = run(calls + [would(call) for call in asked])[len(calls):]
+            self.assertEqual(told, [plain_reply(house, would(call))[0] for call in asked], seed)
+            for call, reply in zip(asked, told):
+                self.check_told(reply, call, last(calls + [call])[0])
+
+    def test_calls_out_of_range_among_them(self):
+        for seed in range(400, 430):
+            draw = random.Random(seed)
+            mixed, expected = [], []
+            for call, reply in zip(*drawn_calls(seed, 110, early=3)):
+                other = call[1:] if call[0] == "would" else call
+                if RANGES[other[0]]:
+                    mixed += [spoiled(draw, other), would(spoiled(draw, other))]
+                    expected += [[-1], [-1]]
+                mixed.append(call)
+                expected.append(reply)
+            self.assertLessEqual(len(mixed), 400)
+            self.assertEqual(run(mixed), expected, seed)
 
 
 def small_house(low, high, line=10**6):

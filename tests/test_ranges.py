@@ -1,6 +1,6 @@
 """-1 for every argument out of its range, -2 before the house is open."""
 
-from helper import BILLION, HUGE, MONEY, NAMES, HouseTest, last, run
+from helper import BILLION, HUGE, MONEY, NAMES, HouseTest, last, run, would
 
 PRICE = (-1000000, 1000000)
 AMOUNT = (1, BILLION)
@@ -88,6 +88,8 @@ class Ranges(HouseTest):
                         call = call_with(name, place, number)
                         self.assertNotEqual(last([call]), [-1])
                         self.assertNotEqual(last(OPENED + [call]), [-1])
+                        self.assertEqual(last([would(call)])[0], 0)
+                        self.assertEqual(last(OPENED + [would(call)])[0], 0)
 
     def test_not_open(self):
         for name in NAMES[1:]:
@@ -102,6 +104,8 @@ class Ranges(HouseTest):
             if fits:
                 self.assertNotEqual(last([call]), [-1])
                 self.assertNotEqual(last(OPENED + [call]), [-1])
+                self.assertEqual(last([would(call)])[0], 0)
+                self.assertEqual(last(OPENED + [would(call)])[0], 0)
             else:
                 self.check([], call, [-1])
                 self.check_refused(OPENED, call, -1)
